@@ -626,18 +626,30 @@ func TestAddByManyAtOnce(t *testing.T) {
 }
 
 func TestTryByManyAtOnce(t *testing.T) {
-	const many, each = 8, 100000
+	// In several rounds, since in one round each may happen to run alone.
+	for range 8 {
+		tryByMany(t, 4, 100000)
+	}
+}
+
+func tryByMany(t *testing.T, many, each int) {
+	t.Helper()
 	r := row(t, 2)
 	wins := make([]int, many)
-	var all sync.WaitGroup
+	var all, ready sync.WaitGroup
+	ready.Add(many)
 	for m := range many {
 		all.Go(func() {
+			ready.Done()
+			ready.Wait()
+			won := 0
 			for range each {
 				w := r.Load(0)
 				if ok, _ := r.CAS(0, w, w+1); ok {
-					wins[m]++
+					won++
 				}
 			}
+			wins[m] = won
 		})
 	}
 	all.Wait()
